@@ -1,0 +1,1 @@
+"""Ordershown: histories that some order explains."""

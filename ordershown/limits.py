@@ -1,0 +1,11 @@
+"""The limits that the document names."""
+
+VALUE = 99
+RESULT = 9999
+OBJECTS = 3
+CALLS = 10
+TRANSACTIONS = 8
+OPERATIONS = 60
+VIEWED = 6
+SCRIPTS = 6
+STEPS = 8
