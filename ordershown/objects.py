@@ -70,6 +70,19 @@ ACTIONS = {
     ("queue", "take"): _take,
 }
 
+ARGUMENTS = {
+    ("register", "write"): 1,
+    ("register", "read"): 0,
+    ("register", "swap"): 2,
+    ("counter", "add"): 1,
+    ("counter", "get"): 0,
+    ("set", "insert"): 1,
+    ("set", "remove"): 1,
+    ("set", "has"): 1,
+    ("queue", "put"): 1,
+    ("queue", "take"): 0,
+}
+
 WORDS = {
     ("register", "write"): ("ok",),
     ("register", "read"): (),
@@ -94,6 +107,21 @@ def first_state(kind):
 def operations_of_kind(kind):
     """Return a new list of the operations of this kind, in the order of the document's table."""
     return [operation for owner, operation in ACTIONS if owner == kind]
+
+
+def is_kind(word):
+    """Return whether the string is one of the four kinds."""
+    return word in FIRST_STATES
+
+
+def is_operation(word):
+    """Return whether some kind has an operation of this name."""
+    return word in [operation for _, operation in ACTIONS]
+
+
+def argument_count(kind, operation):
+    """Return how many values the operation takes."""
+    return ARGUMENTS[(kind, operation)]
 
 
 def step(kind, state, operation, arguments):
