@@ -69,6 +69,11 @@ def fault_of(kinds, pending, event):
     return _fault_of_return(kinds, pending, event)
 
 
+def calls_in(events):
+    """Return how many of the events are calls."""
+    return len([event for event in events if event[0] == "call"])
+
+
 def pending_after(pending, event):
     """Return a new dict of the pending calls, each by its client, behind an event without a fault."""
     after = {client: call for client, call in pending.items() if client != event[1]}

@@ -1,7 +1,7 @@
 """Histories: how they are made, their operations, and how they are cut and renamed."""
 
 from ordershown.errors import HistoryError
-from ordershown.faults import are_objects, fault_of, is_name, pending_after
+from ordershown.faults import are_objects, calls_in, fault_of, is_name, pending_after
 from ordershown.limits import CALLS
 
 
@@ -16,7 +16,7 @@ def history(objects, events):
         if fault is not None:
             raise HistoryError(index, fault)
         pending = pending_after(pending, event)
-    if len([event for event in events if event[0] == "call"]) > CALLS:
+    if calls_in(events) > CALLS:
         raise HistoryError(len(events), "too many calls")
     return tuple(objects), tuple(events)
 

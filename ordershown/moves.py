@@ -5,6 +5,12 @@ from ordershown.objects import first_state, step
 from ordershown.orders import ahead_of_each
 
 
+def done(states, place, kind, operation, arguments):
+    """Return the pair (states, result) behind an operation on the object at this place."""
+    state, result = step(kind, states[place], operation, arguments)
+    return (*states[:place], state, *states[place + 1:]), result
+
+
 class Moves:
     """The positions of a history by a model, and the ways between them."""
 
@@ -55,7 +61,7 @@ class Moves:
             self._choices[placed] = self._choices_at(placed)
         found = []
         for number, after, place, kind, operation, arguments, result in self._choices[placed]:
-            state, got = step(kind, states[place], operation, arguments)
+            behind, got = done(states, place, kind, operation, arguments)
             if result is None or got == result:
-                found.append((number, (after, (*states[:place], state, *states[place + 1:]))))
+                found.append((number, (after, behind)))
         return found

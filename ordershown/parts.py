@@ -1,0 +1,66 @@
+"""Orders of parts woven into one, coherent histories, the first break, and the core."""
+
+from ordershown.histories import beginning, operations, part, without
+from ordershown.orders import ahead_of_each
+from ordershown.tables import fits
+
+
+def _numbers_of(some_history, name):
+    """Return the numbers that the operations of an object's part have in the whole history."""
+    return [number for number, told in enumerate(operations(some_history)) if told[1] == name]
+
+
+def _rows(some_history, orders):
+    """Return the orders of the parts with the numbers of the whole history."""
+    objects, _ = some_history
+    rows = []
+    for (name, _), order in zip(objects, orders):
+        numbers = _numbers_of(some_history, name)
+        rows.append([numbers[number] for number in order])
+    return rows
+
+
+def woven(some_history, orders):
+    """Return the woven order of orders by "real" of all parts."""
+    ahead = ahead_of_each(some_history, "real")
+    needed = {}
+    for row in _rows(some_history, orders):
+        for place, number in enumerate(row):
+            needed[number] = [*ahead[number], *row[:place]]
+    order = []
+    while len(order) < len(needed):
+        free = [
+            number for number in needed
+            if number not in order and all([earlier in order for earlier in needed[number]])
+        ]
+        order.append(min(free))
+    return tuple(order)
+
+
+def is_coherent(some_history):
+    """Return whether each part of the history fits "client"."""
+    objects, _ = some_history
+    return all([fits(part(some_history, name), "client") for name, _ in objects])
+
+
+def first_break(some_history):
+    """Return the least number of events of a beginning that does not fit "real", or None."""
+    _, events = some_history
+    for many in range(len(events) + 1):
+        if not fits(beginning(some_history, many), "real"):
+            return many
+    return None
+
+
+def core(some_history, model):
+    """Return the list of the numbers of the operations in the core, or None if the history fits."""
+    if fits(some_history, model):
+        return None
+    left_out = []
+    kept = []
+    for number in range(len(operations(some_history))):
+        if fits(without(some_history, [*left_out, number]), model):
+            kept.append(number)
+        else:
+            left_out.append(number)
+    return kept
