@@ -30,8 +30,8 @@ def woven(some_history, orders):
     order = []
     while len(order) < len(needed):
         free = [
-            number for number in needed
-            if number not in order and all([earlier in order for earlier in needed[number]])
+            other for other in needed
+            if other not in order and all([earlier in order for earlier in needed[other]])
         ]
         order.append(min(free))
     return tuple(order)

@@ -10,7 +10,7 @@ from ordershown.objects import first_state
 def _steps_from(ways, position):
     """Return the live positions to which one gets by one of the pending operations."""
     states, kept = position
-    placed = [client for client, _ in kept]
+    placed = [pair[0] for pair in kept]
     found = []
     for client, place, kind, operation, arguments in ways:
         if client not in placed:
