@@ -56,10 +56,15 @@ def _events_of(events, numbers):
     return tuple([event for event, owner in zip(events, _owners(events)) if owner in numbers])
 
 
+def numbers_of(some_history, name):
+    """Return the list of the numbers of the operations on one of the objects."""
+    return [number for number, told in enumerate(operations(some_history)) if told[1] == name]
+
+
 def part(some_history, name):
     """Return the history of one of the objects, with the events of its operations."""
     objects, events = some_history
-    numbers = [number for number, told in enumerate(operations(some_history)) if told[1] == name]
+    numbers = numbers_of(some_history, name)
     return tuple([pair for pair in objects if pair[0] == name]), _events_of(events, numbers)
 
 

@@ -1,13 +1,8 @@
 """Orders of parts woven into one, coherent histories, the first break, and the core."""
 
-from ordershown.histories import beginning, operations, part, without
+from ordershown.histories import beginning, numbers_of, operations, part, without
 from ordershown.orders import ahead_of_each
 from ordershown.tables import fits
-
-
-def _numbers_of(some_history, name):
-    """Return the numbers that the operations of an object's part have in the whole history."""
-    return [number for number, told in enumerate(operations(some_history)) if told[1] == name]
 
 
 def _rows(some_history, orders):
@@ -15,7 +10,7 @@ def _rows(some_history, orders):
     objects, _ = some_history
     rows = []
     for (name, _), order in zip(objects, orders):
-        numbers = _numbers_of(some_history, name)
+        numbers = numbers_of(some_history, name)
         rows.append([numbers[number] for number in order])
     return rows
 
