@@ -6,7 +6,8 @@ from ordershown.objects import argument_count, is_kind, is_possible, operations_
 NAME_LENGTH = 8
 
 
-def _is_letter(sign):
+def is_letter(sign):
+    """Return whether the string of one sign is a letter from a to z."""
     return "a" <= sign <= "z"
 
 
@@ -16,9 +17,9 @@ def _is_digit(sign):
 
 def is_name(word):
     """Return whether the string is a name of an object or a client."""
-    if not 1 <= len(word) <= NAME_LENGTH or not _is_letter(word[0]):
+    if not 1 <= len(word) <= NAME_LENGTH or not is_letter(word[0]):
         return False
-    return all([_is_letter(sign) or _is_digit(sign) for sign in word])
+    return all([is_letter(sign) or _is_digit(sign) for sign in word])
 
 
 def are_objects(objects):

@@ -1,5 +1,6 @@
 """Orders of parts woven into one, coherent histories, the first break, and the core."""
 
+from ordershown.conflicts import order_of
 from ordershown.histories import beginning, numbers_of, operations, part, without
 from ordershown.orders import ahead_of_each
 from ordershown.tables import fits
@@ -18,18 +19,13 @@ def _rows(some_history, orders):
 def woven(some_history, orders):
     """Return the woven order of orders by "real" of all parts."""
     ahead = ahead_of_each(some_history, "real")
-    needed = {}
+    numbers = []
+    pairs = []
     for row in _rows(some_history, orders):
-        for place, number in enumerate(row):
-            needed[number] = [*ahead[number], *row[:place]]
-    order = []
-    while len(order) < len(needed):
-        free = [
-            other for other in needed
-            if other not in order and all([earlier in order for earlier in needed[other]])
-        ]
-        order.append(min(free))
-    return tuple(order)
+        numbers.extend(row)
+        pairs.extend(list(zip(row, row[1:])))
+        pairs.extend([(earlier, number) for number in row for earlier in ahead[number]])
+    return tuple(order_of(numbers, pairs))
 
 
 def is_coherent(some_history):
