@@ -103,8 +103,11 @@ class Manager:
         if not isinstance(other, Manager):
             return NotImplemented
         # The histories tell who has ended.
-        same_calls = self.history == other.history and self._owed == other._owed
-        return same_calls and self._store.locks == other._store.locks
+        return (
+            self.history == other.history
+            and self._owed == other._owed
+            and self._store.locks == other._store.locks
+        )
 
 
 def replayed(log):
