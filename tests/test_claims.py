@@ -165,6 +165,11 @@ class JudgeTest(unittest.TestCase):
             with self.subTest(claim=claim):
                 self.assertIs(judge(claim), holds)
 
+    def test_words_that_are_no_claims(self):
+        for claim in [("", []), ("conflicts", [], []), ("not view", [], [1, 2])]:
+            with self.subTest(claim=claim):
+                self.assertIs(judge(claim), False)
+
     def test_judge_all(self):
         told = [place for place, (_, holds) in enumerate(CLAIMS) if not holds]
         self.assertEqual(judge_all([claim for claim, _ in CLAIMS]), told)

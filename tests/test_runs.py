@@ -215,6 +215,9 @@ class SerialRunTest(unittest.TestCase):
                 found = serial_run(self.SCRIPTS, list(order))
                 self.assertEqual(found, runreference.serial_run(self.SCRIPTS, order), order)
 
+    def test_numbers_of_no_script_do_nothing(self):
+        self.assertEqual(serial_run(self.SCRIPTS, [0, 1, 5, 9, -1]), [("x", 5)])
+
     def test_values_that_become_0_again(self):
         scripts = scripts_of("w(x)5 w(y)-5", "r(x) r(y) w(y)0", "w(x)0")
         self.assertEqual(serial_run(scripts, [1, 2, 3]), [])
